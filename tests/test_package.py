@@ -1,43 +1,81 @@
 """[1] to [4] and LANGUAGE.md: what the package is made of, as far as its text shows it."""
 
 import ast
+import builtins
 import importlib
 import inspect
+import re
 import unittest
 from pathlib import Path
 
 FOLDER = Path(__file__).resolve().parent.parent / "carrylog"
+STANDING = "(word, places, limit, budgets, phase=0, *, late=False)"
+# Each function with its arguments, each class with those of its constructor, None where any will do.
 INTERFACE = {
-    "carrylog.errors": [
-        "StoreError", "InvalidInput", "KeyLimit", "ReaderLimit", "UnknownKey", "UnknownReader", "BadChoice",
-        "Stalled", "NoPlace", "PowerCut", "BadImage", "BadRule", "NotSafe", "PoweredOff", "NothingToUndo",
-        "NothingToRedo",
-    ],
-    "carrylog.rounds": ["Round"],
-    "carrylog.sums": [
-        "effective", "ring_goes_on", "least_places", "greatest_limit", "least_budget", "least_free",
-        "segment_share", "segments_limit", "least_segments", "least_segment_budget", "compare_houses", "best_size",
-    ],
+    "carrylog.errors": {
+        name: None for name in [
+            "StoreError", "InvalidInput", "KeyLimit", "ReaderLimit", "UnknownKey", "UnknownReader", "BadChoice",
+            "Stalled", "NoPlace", "PowerCut", "BadImage", "BadRule", "NotSafe", "PoweredOff", "NothingToUndo",
+            "NothingToRedo",
+        ]
+    },
+    "carrylog.rounds": {"Round": "(*budgets)"},
+    "carrylog.sums": {
+        "effective": "(places, limit, *, late=False, tears=0, readers=0)",
+        "ring_goes_on": "(places, limit, budgets, *, late=False, tears=0, readers=0)",
+        "least_places": "(limit, budgets, *, late=False, tears=0, readers=0)",
+        "greatest_limit": "(places, budgets, *, late=False, tears=0)",
+        "least_budget": "(places, limit, *, late=False, tears=0, readers=0)",
+        "least_free": "(limit, budgets)",
+        "segment_share": "(size, budget)",
+        "segments_limit": "(segments, size, budget, *, late=False)",
+        "least_segments": "(limit, size, budget, *, late=False)",
+        "least_segment_budget": "(limit, segments, size, *, late=False)",
+        "compare_houses": "(segments, size, budget)",
+        "best_size": "(places, budget, least, *, late=False)",
+    },
+    "carrylog.words": {
+        "normal": "(text)",
+        "living": "(word)",
+        "depths": "(word)",
+        "word_of": "(depths)",
+        "release": "(word, index)",
+        "carry": "(word, places)",
+        "carries": "(word, count, places)",
+        "append_record": "(word, places, record='1')",
+        "step": "(word, index, count, places, *, late=False)",
+        "dominates": "(first, second)",
+        "newest": "(word)",
+        "best_word": "(count)",
+        "worst_word": "(count, length)",
+    },
+    "carrylog.ring": {"Ring": "(places, limit, budgets, *, late=False, readers=0)"},
+    "carrylog.life": {
+        "blocked_at": STANDING,
+        "short_at": STANDING,
+        "life": STANDING,
+        "safe": STANDING,
+        "newest_step": STANDING,
+        "newest_play": "(word, places, limit, budgets, phase=0, *, late=False, most=64)",
+    },
 }
+# Each method with its arguments; None for a property or a class value.
 METHODS = {
-    "Round": [
-        "__init__", "__len__", "__eq__", "__add__", "MOST", "constant", "budgets", "at", "total", "least",
-        "worst_start", "shifted", "reach",
-    ],
-}
-SIGNATURES = {
-    "effective": "(places, limit, *, late=False, tears=0, readers=0)",
-    "ring_goes_on": "(places, limit, budgets, *, late=False, tears=0, readers=0)",
-    "least_places": "(limit, budgets, *, late=False, tears=0, readers=0)",
-    "greatest_limit": "(places, budgets, *, late=False, tears=0)",
-    "least_budget": "(places, limit, *, late=False, tears=0, readers=0)",
-    "least_free": "(limit, budgets)",
-    "segment_share": "(size, budget)",
-    "segments_limit": "(segments, size, budget, *, late=False)",
-    "least_segments": "(limit, size, budget, *, late=False)",
-    "least_segment_budget": "(limit, segments, size, *, late=False)",
-    "compare_houses": "(segments, size, budget)",
-    "best_size": "(places, budget, least, *, late=False)",
+    "Round": {
+        "__init__": "(self, *budgets)", "__len__": "(self)", "__eq__": "(self, other)", "__add__": "(self, other)",
+        "MOST": None, "constant": "(budget)", "budgets": None, "at": "(self, t)", "total": "(self, start, count)",
+        "least": "(self, count)", "worst_start": "(self, count)", "shifted": "(self, phase)",
+        "reach": "(self, need)",
+    },
+    "Ring": {
+        "places": None, "limit": None, "budgets": None, "late": None, "readers": None, "word": None, "free": None,
+        "done": None, "phase": None, "carried": None, "last_wait": None, "__len__": "(self)",
+        "__contains__": "(self, x)", "read": "(self, key)", "table": "(self)", "log": "(self)", "scan": "(self)",
+        "age": "(self, key)", "put": "(self, key, value, count=None)", "delete": "(self, key, count=None)",
+        "open_reader": "(self)", "read_as": "(self, reader, key)", "close_reader": "(self, reader)",
+        "open_readers": "(self)", "twin": "(self)",
+        "changed": "(self, *, places=None, limit=None, budgets=None)",
+    },
 }
 OUTSIDE = {
     "heapq": {"heappush", "heappop", "heapify", "heapreplace", "heappushpop"},
@@ -46,6 +84,23 @@ OUTSIDE = {
         "product", "combinations", "permutations", "chain", "accumulate", "pairwise", "islice", "zip_longest",
     },
     "collections": {"defaultdict"},
+}
+BUILTINS = {
+    "len", "range", "enumerate", "zip", "min", "max", "sum", "abs", "sorted", "reversed", "int", "str", "bool",
+    "list", "tuple", "dict", "set", "isinstance", "ord", "repr", "any", "all", "divmod", "super", "property",
+    "staticmethod", "classmethod", "ValueError", "NotImplemented", "map",
+}
+# The methods of strings, numbers, lists and dicts that may be called.
+BUILTIN_METHODS = {
+    "append", "clear", "copy", "count", "endswith", "extend", "find", "get", "index", "insert", "isalnum", "isalpha",
+    "isdigit", "islower", "isspace", "isupper", "items", "join", "keys", "ljust", "lower", "lstrip", "partition",
+    "pop", "remove", "replace", "reverse", "rfind", "rjust", "rpartition", "rsplit", "rstrip", "setdefault", "split",
+    "splitlines", "startswith", "strip", "update", "upper", "values", "zfill", "bit_length",
+}
+UNUSED = {
+    "register", "mro", "elements", "open", "input", "law", "version_info", "with_traceback", "add_note", "type",
+    "typing", "enum", "dataclass", "overload", "compile", "copyright", "credits", "dir", "eval", "exec", "exit",
+    "globals", "hash", "help", "id", "license", "locals", "os", "quit", "vars",
 }
 BARRED = (
     ast.Global, ast.AsyncFunctionDef, ast.Await, ast.Div, ast.MatMult, ast.TryStar, ast.MatchMapping,
@@ -58,6 +113,28 @@ def files():
 
 def trees():
     return [(path, ast.parse(path.read_text(encoding="utf-8"))) for path in files()]
+
+
+def bound_names(tree):
+    """All names that the file binds: parameters, variables, functions, classes and imports."""
+    names = local_names(tree)
+    for part in ast.walk(tree):
+        if isinstance(part, (ast.FunctionDef, ast.ClassDef)):
+            names.add(part.name)
+        if isinstance(part, ast.ImportFrom):
+            names |= {name.name for name in part.names}
+    return names
+
+
+def local_names(tree):
+    names = {part.arg for part in ast.walk(tree) if isinstance(part, ast.arg)}
+    stored = [part for part in ast.walk(tree) if isinstance(part, ast.Name) and isinstance(part.ctx, ast.Store)]
+    return names | {part.id for part in stored}
+
+
+def method_names(tree):
+    classes = [part for part in ast.walk(tree) if isinstance(part, ast.ClassDef)]
+    return {one.name for part in classes for one in part.body if isinstance(one, ast.FunctionDef)}
 
 
 class TestInterface(unittest.TestCase):
@@ -74,13 +151,27 @@ class TestInterface(unittest.TestCase):
     def test_methods_are_defined_in_their_classes(self):
         for module, names in INTERFACE.items():
             for name in names:
-                for method in METHODS.get(name, []):
-                    self.assertIn(method, vars(getattr(importlib.import_module(module), name)))
+                for method, arguments in METHODS.get(name, {}).items():
+                    with self.subTest(name=name, method=method):
+                        own = vars(getattr(importlib.import_module(module), name))
+                        self.assertIn(method, own)
+                        if arguments is not None:
+                            call = own[method].__func__ if isinstance(own[method], staticmethod) else own[method]
+                            self.assertEqual(str(inspect.signature(call)), arguments)
 
     def test_signatures(self):
-        sums = importlib.import_module("carrylog.sums")
-        for name, signature in SIGNATURES.items():
-            self.assertEqual(str(inspect.signature(getattr(sums, name))), signature)
+        for module, names in INTERFACE.items():
+            for name, arguments in names.items():
+                if arguments is not None:
+                    with self.subTest(name=name):
+                        call = getattr(importlib.import_module(module), name)
+                        self.assertEqual(str(inspect.signature(call)), arguments)
+
+    def test_generators(self):
+        for module, name in [("carrylog.life", "newest_play")]:
+            self.assertTrue(inspect.isgeneratorfunction(getattr(importlib.import_module(module), name)))
+        ring = importlib.import_module("carrylog.ring")
+        self.assertTrue(inspect.isgeneratorfunction(ring.Ring.scan))
 
 
 class TestLanguage(unittest.TestCase):
@@ -131,6 +222,68 @@ class TestLanguage(unittest.TestCase):
                     self.assertNotIsInstance(part.value, (float, complex), path)
                     if isinstance(part.value, str):
                         self.assertNotIn("%", part.value)
+
+    def test_names_that_are_read(self):
+        """L8: of the builtins only those of the list."""
+        for path, tree in trees():
+            bound = bound_names(tree)
+            for part in ast.walk(tree):
+                if isinstance(part, ast.Name) and isinstance(part.ctx, ast.Load):
+                    self.assertIn(part.id, bound | BUILTINS, path)
+
+    def test_names_that_are_bound(self):
+        """L12, L15, L17: no builtin and no import or class of the file is bound again."""
+        for path, tree in trees():
+            taken = {part.name for part in ast.walk(tree) if isinstance(part, ast.ClassDef)}
+            taken |= {name.name for part in tree.body if isinstance(part, ast.ImportFrom) for name in part.names}
+            for name in local_names(tree):
+                self.assertNotIn(name, taken, path)
+            methods = method_names(tree)
+            for name in bound_names(tree) - methods:
+                self.assertFalse(hasattr(builtins, name), (path, name))
+                self.assertNotIn(name, UNUSED, path)
+            for name in bound_names(tree) | {part.attr for part in ast.walk(tree) if isinstance(part, ast.Attribute)}:
+                self.assertNotIn(name, UNUSED, path)
+                self.assertIsNone(re.search("^_(cold|tuplegetter|outside|record|written_out|member_names)[0-9_]*$",
+                                            name))
+
+    def test_attributes(self):
+        """L18, L25, L26: what is called or read is a method or an attribute of the package, or allowed."""
+        methods, attributes, public = set(), set(), set()
+        for _, tree in trees():
+            methods |= method_names(tree)
+            for part in ast.walk(tree):
+                if isinstance(part, ast.Attribute) and isinstance(part.ctx, ast.Store):
+                    attributes.add(part.attr)
+                if isinstance(part, ast.ClassDef):
+                    public |= {one.targets[0].id for one in part.body if isinstance(one, ast.Assign)}
+        for path, tree in trees():
+            for part in ast.walk(tree):
+                if isinstance(part, ast.Call) and isinstance(part.func, ast.Attribute):
+                    self.assertIn(part.func.attr, methods | BUILTIN_METHODS | {"__init__"}, path)
+                elif isinstance(part, ast.Attribute):
+                    self.assertIn(part.attr, methods | attributes | public | BUILTIN_METHODS, path)
+        for name in attributes:
+            for kind in (str, int, list, dict, set, tuple, bytes):
+                self.assertFalse(hasattr(kind, name), name)
+        self.assertEqual(attributes & methods, set())
+
+    def test_each_class_has_its_own_names(self):
+        """L5, L23: no property and no generator shares its name with another method."""
+        plain, properties, generators = [], [], []
+        for _, tree in trees():
+            for part in ast.walk(tree):
+                if not isinstance(part, ast.FunctionDef):
+                    continue
+                if any(ast.unparse(over) == "property" for over in part.decorator_list):
+                    properties.append(part.name)
+                elif any(isinstance(one, (ast.Yield, ast.YieldFrom)) for one in ast.walk(part)):
+                    generators.append(part.name)
+                else:
+                    plain.append(part.name)
+        self.assertEqual(set(properties) & set(plain), set())
+        self.assertEqual(set(generators) & set(plain + properties), set())
+        self.assertEqual(len(generators), len(set(generators)))
 
     def test_decorators_and_module_level(self):
         """L3, L4"""

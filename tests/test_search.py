@@ -1,7 +1,8 @@
 """The rules of the ring and of segments against games that are searched to the end.
 
-[2], [9], [11] and [13]: the games are written out here from the words of the
-document alone and use nothing of the package but the rules under test.
+[2], [9], [11] and [13]: the games are written out here and in tests.games from
+the words of the document alone and use nothing of the package but the rules
+under test.
 """
 
 import unittest
@@ -9,59 +10,7 @@ from itertools import product
 
 from carrylog.rounds import Round
 from carrylog.sums import ring_goes_on, segments_limit
-
-
-def safe_states(states, replies_of):
-    """The states from which the keeper can go on forever."""
-    table = {state: replies_of(state) for state in states}
-    safe = set(table)
-    while True:
-        kept = {state for state in safe if all(any(r in safe for r in row) for row in table[state])}
-        if kept == safe:
-            return safe
-        safe = kept
-
-
-def without(word, index):
-    """The word with this one (None: no one) made a zero, freed at the tail."""
-    places = [at for at, mark in enumerate(word) if mark == "1"]
-    if index is not None:
-        word = word[:places[index]] + "0" + word[places[index] + 1:]
-    return word.lstrip("0")
-
-
-def carried(word, most, places):
-    """The words after 0, 1, .. carries, at most `most`."""
-    words = [word]
-    while len(words) <= most and word and len(word) < places:
-        word = (word[1:] + "1").lstrip("0")
-        words.append(word)
-    return words
-
-
-def ring_put(word, index, places, budget, late):
-    """All words that a put of this key can lead to; none if it stalls."""
-    if late:
-        if len(word) == places:
-            return []
-        word = without(word + "1", index)
-        return carried(word, min(budget, word.count("1") - 1), places)
-    word = without(word, index)
-    after = carried(word, min(budget, word.count("1")), places)
-    return [each + "1" for each in after if len(each) < places]
-
-
-def ring_replies(state, places, limit, row, late):
-    word, phase = state
-    ones = word.count("1")
-    moves = list(range(ones)) + ([None] if ones < limit else [])
-    after = (phase + 1) % len(row)
-    return [[(w, after) for w in ring_put(word, move, places, row[phase], late)] for move in moves]
-
-
-def ring_words(places, limit):
-    words = [""] + ["1" + "".join(rest) for n in range(places) for rest in product("01", repeat=n)]
-    return [word for word in words if word.count("1") <= limit]
+from tests.games import ring_replies, ring_words, safe_states
 
 
 class TestRingByHand(unittest.TestCase):
