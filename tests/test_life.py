@@ -17,6 +17,7 @@ from tests.refusing import check_every_mix, refused_field
 BIG = 10 ** 30
 MINUS, ZERO = [-1, -BIG], [0, -1, -BIG]
 NO_WORDS = ["0", "01", "2", "1x"]
+NO_ROUNDS = [None, 1, [1], (1, 2)]
 ROUNDS = [[0], [1], [2], [5], [0, 1], [2, 0], [3, 0, 0], [0, 2, 1]]
 FUNCTIONS = [blocked_at, short_at, life, safe, newest_step]
 
@@ -296,15 +297,23 @@ class TestRefusals(unittest.TestCase):
 
     def test_each_limit(self):
         good = {"word": "101", "places": 5, "limit": 3, "budgets": Round(1), "phase": 0}
-        broken = {"word": NO_WORDS, "places": ZERO, "limit": ZERO, "phase": MINUS}
+        broken = {"word": NO_WORDS, "places": ZERO, "limit": ZERO, "budgets": NO_ROUNDS, "phase": MINUS}
         for call, late in product(FUNCTIONS, [False, True]):
             check_every_mix(self, call, good, broken, {"late": late})
+
+    def test_each_limit_beside_a_full_word(self):
+        good = {"word": "101", "places": 3, "limit": 2, "budgets": Round(1), "phase": 0}
+        for call in FUNCTIONS[:4]:
+            check_every_mix(self, call, good, {"limit": ZERO, "budgets": NO_ROUNDS, "phase": MINUS},
+                            {"late": True})
+            self.assertEqual(refused_field(call, "101", 3, 4, Round(1), late=True), "limit")
+            self.assertEqual(refused_field(call, "101", 3, 1, Round(1), late=True), "word")
 
     def test_each_limit_of_the_play(self):
         def play(*args, **named):
             return list(newest_play(*args, **named))
         good = {"word": "101", "places": 5, "limit": 3, "budgets": Round(1), "phase": 0}
-        broken = {"word": NO_WORDS, "places": ZERO, "limit": ZERO, "phase": MINUS, "most": MINUS}
+        broken = {"word": NO_WORDS, "places": ZERO, "limit": ZERO, "budgets": NO_ROUNDS, "phase": MINUS, "most": MINUS}
         check_every_mix(self, play, good, broken, {"late": False, "most": 5})
         self.assertEqual(refused_field(play, "1111", 3, 4, Round(1), most=-1), "most")
         self.assertEqual(refused_field(play, "1111", 3, 4, Round(1), most=0), "word")

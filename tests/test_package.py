@@ -58,6 +58,31 @@ INTERFACE = {
         "newest_step": STANDING,
         "newest_play": "(word, places, limit, budgets, phase=0, *, late=False, most=64)",
     },
+    "carrylog.papers": {
+        "steady_word": "(limit, budgets, phase)",
+        "forever_paper": STANDING,
+        "forever_holds": "(paper, " + STANDING[1:],
+        "stall_paper": STANDING,
+        "stall_holds": "(paper, " + STANDING[1:],
+    },
+    "carrylog.counts": {
+        "count_words": "(places, count)",
+        "count_safe": "(places, limit, budgets, phase, count, *, late=False)",
+        "safe_words": "(places, limit, budgets, phase, count, *, late=False)",
+        "word_at": "(rank, places, count)",
+        "rank_of": "(word)",
+    },
+    "carrylog.segments": {"Segments": "(segments, size, limit, budget, *, late=False)"},
+    "carrylog.duel": {
+        "can_empty": "(written, fewest, budget, size)",
+        "SegmentKeeper": "()",
+        "Fewest": "()",
+        "Oldest": "()",
+        "Scripted": "(numbers)",
+        "Opponent": "(limit)",
+        "stall_bound": "(segments, size, limit, count)",
+        "run_duel": "(store, keeper, opponent, most)",
+    },
 }
 # Each method with its arguments; None for a property or a class value.
 METHODS = {
@@ -75,6 +100,20 @@ METHODS = {
         "open_reader": "(self)", "read_as": "(self, reader, key)", "close_reader": "(self, reader)",
         "open_readers": "(self)", "twin": "(self)",
         "changed": "(self, *, places=None, limit=None, budgets=None)",
+    },
+    "Segments": {
+        "segments": None, "size": None, "limit": None, "budget": None, "late": None, "head": None, "room": None,
+        "done": None, "carried": None, "last_wait": None, "__len__": "(self)", "__contains__": "(self, x)",
+        "read": "(self, key)", "table": "(self)", "written": "(self, segment)", "living": "(self, segment)",
+        "freed": "(self, segment)", "closed": "(self)", "closed_by_age": "(self)", "picture": "(self)",
+        "summary": "(self)", "put": "(self, key, value, *choices)", "delete": "(self, key)", "twin": "(self)",
+    },
+    "SegmentKeeper": {"choices": "(self, store, key)"},
+    "Fewest": {"choices": "(self, store, key)"},
+    "Oldest": {"choices": "(self, store, key)"},
+    "Scripted": {"choices": "(self, store, key)", "used": None},
+    "Opponent": {
+        "next_key": "(self, store)", "released": "(self, store, segment)", "debt": "(self, store)", "second": None,
     },
 }
 OUTSIDE = {
@@ -168,7 +207,7 @@ class TestInterface(unittest.TestCase):
                         self.assertEqual(str(inspect.signature(call)), arguments)
 
     def test_generators(self):
-        for module, name in [("carrylog.life", "newest_play")]:
+        for module, name in [("carrylog.life", "newest_play"), ("carrylog.counts", "safe_words")]:
             self.assertTrue(inspect.isgeneratorfunction(getattr(importlib.import_module(module), name)))
         ring = importlib.import_module("carrylog.ring")
         self.assertTrue(inspect.isgeneratorfunction(ring.Ring.scan))

@@ -14,6 +14,7 @@ from tests.refusing import check_every_mix, refused_field
 
 BIG = 10 ** 30
 HUGE = 10 ** 3000
+NO_ROUNDS = [1, [1], (1, 2), "1"]
 KEYS = ["a", "b", "c", "d", "0", "zz9"]
 NO_KEYS = ["", "A", "a b", "a" * 13, "-", "a_", "\n", "a\n", "\u00e4", "\u0661", "0" * 13]
 ROUNDS = [[0], [1], [2], [3, 0], [0, 1], [2, 0, 0], [1, 0, 3, 2]]
@@ -408,6 +409,9 @@ class TestCopies(unittest.TestCase):
                 self.assertEqual(refused_field(ring.changed, **named), field)
                 self.assertEqual(picture_of(ring, KEYS), before)
         self.assertEqual(refused_field(filled(5, 3, Round(1), "abc").changed, places=3), None)
+        check_every_mix(self, Ring(5, 4, Round(1)).changed, {}, {
+            "places": [0, -1, -BIG], "limit": [0, -1, -BIG], "budgets": NO_ROUNDS,
+        }, {"places": 4, "limit": 4, "budgets": Round(1)})
 
     def test_dead_records_count_for_the_places(self):
         ring = filled(6, 2, Round(0), ["a", "b", "b", "b"])
@@ -421,7 +425,9 @@ class TestRefusals(unittest.TestCase):
 
     def test_of_the_constructor(self):
         good = {"places": 3, "limit": 3, "budgets": Round(1)}
-        broken = {"places": [0, -1, -BIG], "limit": [0, -1, -BIG], "readers": [-1, -BIG]}
+        broken = {
+            "places": [0, -1, -BIG], "limit": [0, -1, -BIG], "budgets": NO_ROUNDS, "readers": [-1, -BIG],
+        }
         check_every_mix(self, Ring, good, broken, {"readers": 2})
         check_every_mix(self, Ring, good, broken, {"late": True, "readers": 0})
 
@@ -471,7 +477,7 @@ class TestDrawnPlays(unittest.TestCase):
         places = draw.randrange(1, 10)
         terms = (places, draw.randrange(1, places + 1), draw.choice(ROUNDS))
         late = draw.random() < 0.4
-        readers = 0 if late else draw.randrange(4)
+        readers = 0 if late else draw.randrange(5)
         ring = Ring(terms[0], terms[1], Round(*terms[2]), late=late, readers=readers)
         model = PlainRing(*terms, late, readers)
         for turn in range(60):

@@ -292,6 +292,9 @@ class TestRefusals(unittest.TestCase):
     def test_limits_between_arguments_come_after_all_others(self):
         self.assertEqual(refused_field(release, "1", 1), "index")
         self.assertEqual(refused_field(release, "", 0), "index")
+        for call in [lambda places: carry("", places), lambda places: carries("", 0, places),
+                     lambda places: append_record("", places), lambda places: step("", None, 0, places)]:
+            check_every_mix(self, call, {"places": 1}, {"places": ZERO})
         self.assertEqual(refused_field(append_record, "111", 2, "x"), "record")
         self.assertEqual(refused_field(append_record, "111", 2, "0"), "places")
         self.assertEqual(refused_field(carries, "111", -1, 2), "count")
