@@ -129,6 +129,14 @@ def check_standing_fits(word, places, limit):
     check_limit_fits(limit, places)
 
 
+def check_terms(places, limit, budgets):
+    """Refuse terms of a ring that break a limit."""
+    check_least(places, 1, "places")
+    check_least(limit, 1, "limit")
+    check_round(budgets)
+    check_limit_fits(limit, places)
+
+
 def check_limit_fits(limit, places):
     """Refuse a limit above the places."""
     if limit > places:

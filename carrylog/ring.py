@@ -11,12 +11,12 @@ class Entry:
     Copies of a log can share their entries because nothing changes an entry.
     """
 
-    def __init__(self, key, value, lives, seen_by):
+    def __init__(self, key, value, alive, seen_by):
         self.key = key
         self.value = value
-        self.lives = lives
+        self.alive = alive
         self.seen_by = seen_by
-        self.needed = lives or len(seen_by) > 0
+        self.needed = alive or len(seen_by) > 0
 
     def released(self):
         """Return the record as it is when its key has no use for it."""
@@ -24,12 +24,12 @@ class Entry:
 
     def seen(self, reader):
         """Return the record as it is when this reader sees it, too."""
-        return Entry(self.key, self.value, self.lives, self.seen_by + (reader,))
+        return Entry(self.key, self.value, self.alive, self.seen_by + (reader,))
 
     def unseen(self, reader):
         """Return the record as it is when this reader is closed."""
         others = [each for each in self.seen_by if each != reader]
-        return Entry(self.key, self.value, self.lives, tuple(others))
+        return Entry(self.key, self.value, self.alive, tuple(others))
 
 
 class Ring:
@@ -113,21 +113,21 @@ class Ring:
         return self._last_wait
 
     def __len__(self):
-        return len([entry for entry in self._entries if entry.lives])
+        return len([entry for entry in self._entries if entry.alive])
 
     def __contains__(self, x):
-        return x in [entry.key for entry in self._entries if entry.lives]
+        return x in [entry.key for entry in self._entries if entry.alive]
 
     def read(self, key):
         """Return the value of the living record of the key."""
         for entry in self._entries:
-            if entry.lives and entry.key == key:
+            if entry.alive and entry.key == key:
                 return entry.value
         raise UnknownKey(key)
 
     def table(self):
         """Return the value of each living key, in the order from tail to head."""
-        return {entry.key: entry.value for entry in self._entries if entry.lives}
+        return {entry.key: entry.value for entry in self._entries if entry.alive}
 
     def log(self):
         """Return (key, value) for each needed record and None for each dead one."""
@@ -142,7 +142,7 @@ class Ring:
     def age(self, key):
         """Return the depth of the living record of the key."""
         for at, entry in enumerate(self._entries):
-            if entry.lives and entry.key == key:
+            if entry.alive and entry.key == key:
                 return len(self._entries) - at
         raise UnknownKey(key)
 
@@ -164,7 +164,7 @@ class Ring:
         if len(self._open_readers) >= self._readers:
             raise ReaderLimit(self._readers)
         reader = self._next_reader
-        self._entries = [entry.seen(reader) if entry.lives else entry for entry in self._entries]
+        self._entries = [entry.seen(reader) if entry.alive else entry for entry in self._entries]
         self._open_readers = self._open_readers + [reader]
         self._next_reader = reader + 1
         return reader
@@ -214,7 +214,7 @@ class Ring:
         if self._late:
             self._check_room(self._entries)
             entries = _freed(_released(self._entries, own.key) + [own])
-            others = _needed(entries) - 1 if own.lives else _needed(entries)
+            others = _needed(entries) - 1 if own.alive else _needed(entries)
             entries, wait = self._carry(entries, others, count)
         else:
             entries = _freed(_released(self._entries, own.key))
@@ -271,7 +271,7 @@ def _freed(entries):
 
 def _released(entries, key):
     """Return the entries with the record of the key no longer living."""
-    return [entry.released() if entry.lives and entry.key == key else entry for entry in entries]
+    return [entry.released() if entry.alive and entry.key == key else entry for entry in entries]
 
 
 def _needed(entries):

@@ -1,4 +1,4 @@
-"""The game on a ring, written out from the words of the document alone.
+"""The games on a ring and on segments, written out from the words of the document alone.
 
 Nothing here uses the package, so that tests can hold the package against it.
 """
@@ -89,3 +89,82 @@ def ring_lives(places, limit, row, late):
     """The life of each standing (word, phase) of a ring."""
     states = list(product(ring_words(places, limit), range(len(row))))
     return lives(states, lambda state: ring_replies(state, places, limit, row, late))
+
+
+def write(state, size, segments):
+    """A summary after one write, or None if there is no place."""
+    head, alive, closed = state
+    if head < size:
+        return (head + 1, alive + 1, closed)
+    if len(closed) + 1 == segments:
+        return None
+    return (1, 1, tuple(sorted([*closed, alive])))
+
+
+def kill_closed(state, count):
+    """A summary after the death of a record in a closed segment with so many."""
+    head, alive, closed = state
+    rest = list(closed)
+    rest.remove(count)
+    return (head, alive, tuple(sorted(rest + [count - 1] * (count > 1))))
+
+
+def kill_head(state):
+    head, alive, closed = state
+    return (head, alive - 1, closed) if alive > 1 else (0, 0, closed)
+
+
+def carries_of(state, budget, size, segments):
+    """The summaries after at most `budget` carries from any closed segments."""
+    found = {state}
+    fresh = [state]
+    for _ in range(budget):
+        news = []
+        for each in fresh:
+            for count in set(each[2]):
+                copied = write(each, size, segments)
+                if copied:
+                    news.append(kill_closed(copied, count))
+        fresh = [each for each in set(news) if each not in found]
+        found.update(fresh)
+    return found
+
+
+def segments_put(state, move, budget, size, segments, late):
+    """All summaries that a put can lead to; none if it stalls."""
+    if not late:
+        released = state if move == "new" else kill_head(state) if move == "head" else kill_closed(state, move)
+        after = [write(each, size, segments) for each in carries_of(released, budget, size, segments)]
+        return [each for each in after if each]
+    moment = write(state, size, segments)
+    if moment is None:
+        return []
+    if move == "head":
+        # A full head is closed by the write, with the record to be released in it.
+        moment = kill_closed(moment, state[1]) if state[0] == size else kill_head(moment)
+    elif move != "new":
+        moment = kill_closed(moment, move)
+    return list(carries_of(moment, budget, size, segments))
+
+
+def segments_moves(state, limit):
+    """Every key that can be put: "new", "head", or the living count of a closed segment."""
+    alive = state[1] + sum(state[2])
+    return (["new"] if alive < limit else []) + (["head"] if state[1] else []) + sorted(set(state[2]))
+
+
+def segments_replies(state, limit, budget, size, segments, late):
+    moves = segments_moves(state, limit)
+    return [segments_put(state, move, budget, size, segments, late) for move in moves]
+
+
+def reachable(start, replies_of):
+    found = {start}
+    todo = [start]
+    while todo:
+        for row in replies_of(todo.pop()):
+            for each in row:
+                if each not in found:
+                    found.add(each)
+                    todo.append(each)
+    return found

@@ -83,7 +83,20 @@ INTERFACE = {
         "stall_bound": "(segments, size, limit, count)",
         "run_duel": "(store, keeper, opponent, most)",
     },
+    "carrylog.games": {
+        "Game": "()",
+        "RingGame": "(places, limit, budgets, *, late=False)",
+        "SegmentGame": "(segments, size, limit, budget, *, late=False)",
+    },
+    "carrylog.lots": {
+        "closed_lot": "(game)",
+        "lot_holds": "(game, lot)",
+        "stall_table": "(game)",
+        "table_holds": "(game, table)",
+    },
+    "carrylog.disk": {"Disk": "(places, limit, budgets)"},
 }
+GAME = {"states": "(self)", "opening": "(self)", "moves": "(self, state)", "replies": "(self, state, move)"}
 # Each method with its arguments; None for a property or a class value.
 METHODS = {
     "Round": {
@@ -114,6 +127,17 @@ METHODS = {
     "Scripted": {"choices": "(self, store, key)", "used": None},
     "Opponent": {
         "next_key": "(self, store)", "released": "(self, store, segment)", "debt": "(self, store)", "second": None,
+    },
+    "Game": {"successors": "(self, state)", "lives": "(self)", "count_states": "(self)"},
+    "RingGame": GAME,
+    "SegmentGame": GAME,
+    "Disk": {
+        "recover": "(cls, image, limit, budgets)", "places": None, "limit": None, "budgets": None, "word": None,
+        "free": None, "done": None, "phase": None, "torn": None, "number": None, "off": None, "pending": None,
+        "__len__": "(self)", "__contains__": "(self, x)", "read": "(self, key)", "table": "(self)", "image": "(self)",
+        "put": "(self, key, value, count=None, *, cut=None, outcome='none')",
+        "delete": "(self, key, count=None, *, cut=None, outcome='none')",
+        "resume": "(self, count=None, *, cut=None, outcome='none')",
     },
 }
 OUTSIDE = {
@@ -195,7 +219,8 @@ class TestInterface(unittest.TestCase):
                         own = vars(getattr(importlib.import_module(module), name))
                         self.assertIn(method, own)
                         if arguments is not None:
-                            call = own[method].__func__ if isinstance(own[method], staticmethod) else own[method]
+                            is_bound = isinstance(own[method], (staticmethod, classmethod))
+                            call = own[method].__func__ if is_bound else own[method]
                             self.assertEqual(str(inspect.signature(call)), arguments)
 
     def test_signatures(self):
@@ -209,8 +234,9 @@ class TestInterface(unittest.TestCase):
     def test_generators(self):
         for module, name in [("carrylog.life", "newest_play"), ("carrylog.counts", "safe_words")]:
             self.assertTrue(inspect.isgeneratorfunction(getattr(importlib.import_module(module), name)))
-        ring = importlib.import_module("carrylog.ring")
-        self.assertTrue(inspect.isgeneratorfunction(ring.Ring.scan))
+        for module, name, method in [("carrylog.ring", "Ring", "scan"), ("carrylog.games", "Game", "successors")]:
+            call = getattr(getattr(importlib.import_module(module), name), method)
+            self.assertTrue(inspect.isgeneratorfunction(call))
 
 
 class TestLanguage(unittest.TestCase):
