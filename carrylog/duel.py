@@ -149,7 +149,6 @@ class Opponent:
         return (store.budget + 1) * (self.released(store, segment) + 1) < written
 
 
-
 def stall_bound(segments, size, limit, count):
     """Return how many puts are completed at most when the limit is too great."""
     check_least(segments, 1, "segments")

@@ -143,7 +143,8 @@ class SegmentGame(Game):
         """Return all summaries after at most as many carries as the budget allows."""
         met = {moment: True}
         fresh = [moment]
-        for _ in range(self._budget):
+        carried = 0
+        while carried < self._budget and len(fresh) > 0:
             found = {}
             for state in fresh:
                 copied = self._after_write(state)
@@ -153,6 +154,7 @@ class SegmentGame(Game):
             fresh = [state for state in found if state not in met]
             for state in fresh:
                 met[state] = True
+            carried += 1
         return list(met)
 
 

@@ -95,7 +95,22 @@ INTERFACE = {
         "table_holds": "(game, table)",
     },
     "carrylog.disk": {"Disk": "(places, limit, budgets)"},
+    "carrylog.keepers": {
+        "Keeper": "()",
+        "Greedy": "()",
+        "Lazy": "(mark)",
+        "Thrifty": "(limit)",
+        "RuleKeeper": "(text)",
+    },
+    "carrylog.trial": {
+        "run_row": "(keeper, row, places, limit, budgets)",
+        "worst_row": "(keeper, places, limit, budgets)",
+        "standings": "(keeper, places, limit, budgets)",
+    },
+    "carrylog.journal": {"Observer": "(places, limit, budgets)"},
+    "carrylog.desk": {"Desk": "(places, limit, budgets)"},
 }
+KEEPER = {"choose": "(self, word, places, budgets, phase)", "label": "(self)"}
 GAME = {"states": "(self)", "opening": "(self)", "moves": "(self, state)", "replies": "(self, state, move)"}
 # Each method with its arguments; None for a property or a class value.
 METHODS = {
@@ -138,6 +153,24 @@ METHODS = {
         "put": "(self, key, value, count=None, *, cut=None, outcome='none')",
         "delete": "(self, key, count=None, *, cut=None, outcome='none')",
         "resume": "(self, count=None, *, cut=None, outcome='none')",
+    },
+    "Keeper": KEEPER,
+    "Greedy": KEEPER,
+    "Lazy": {**KEEPER, "mark": None, "set_mark": "(self, mark)"},
+    "Thrifty": KEEPER,
+    "RuleKeeper": KEEPER,
+    "Observer": {
+        "readings": "(self, journal)", "count_readings": "(self, journal)", "fits": "(self, journal)",
+        "first_fault": "(self, journal)", "sure_waits": "(self, journal)", "sure_words": "(self, journal)",
+        "outlook": "(self, journal, key)", "mends": "(self, journal)", "record": "(self, rows)",
+    },
+    "Desk": {
+        "rebuilt": "(places, limit, budgets, history)", "places": None, "limit": None, "budgets": None, "word": None,
+        "free": None, "phase": None, "done": None, "carried": None, "spare": None, "steps": None,
+        "__len__": "(self)", "__contains__": "(self, x)", "read": "(self, key)", "table": "(self)",
+        "put": "(self, key, value)", "delete": "(self, key)",
+        "change": "(self, *, places=None, limit=None, budgets=None)", "undo": "(self)", "redo": "(self)",
+        "history": "(self)", "attempt": "(self, *deeds)", "twin": "(self)",
     },
 }
 OUTSIDE = {
@@ -234,7 +267,8 @@ class TestInterface(unittest.TestCase):
     def test_generators(self):
         for module, name in [("carrylog.life", "newest_play"), ("carrylog.counts", "safe_words")]:
             self.assertTrue(inspect.isgeneratorfunction(getattr(importlib.import_module(module), name)))
-        for module, name, method in [("carrylog.ring", "Ring", "scan"), ("carrylog.games", "Game", "successors")]:
+        for module, name, method in [("carrylog.ring", "Ring", "scan"), ("carrylog.games", "Game", "successors"),
+                                     ("carrylog.journal", "Observer", "readings")]:
             call = getattr(getattr(importlib.import_module(module), name), method)
             self.assertTrue(inspect.isgeneratorfunction(call))
 
@@ -326,7 +360,7 @@ class TestLanguage(unittest.TestCase):
             for part in ast.walk(tree):
                 if isinstance(part, ast.Call) and isinstance(part.func, ast.Attribute):
                     self.assertIn(part.func.attr, methods | BUILTIN_METHODS | {"__init__"}, path)
-                elif isinstance(part, ast.Attribute):
+                elif isinstance(part, ast.Attribute) and part.attr != "setter":
                     self.assertIn(part.attr, methods | attributes | public | BUILTIN_METHODS, path)
         for name in attributes:
             for kind in (str, int, list, dict, set, tuple, bytes):
@@ -340,7 +374,8 @@ class TestLanguage(unittest.TestCase):
             for part in ast.walk(tree):
                 if not isinstance(part, ast.FunctionDef):
                     continue
-                if any(ast.unparse(over) == "property" for over in part.decorator_list):
+                over = [ast.unparse(each) for each in part.decorator_list]
+                if over in (["property"], [f"{part.name}.setter"]):
                     properties.append(part.name)
                 elif any(isinstance(one, (ast.Yield, ast.YieldFrom)) for one in ast.walk(part)):
                     generators.append(part.name)
